@@ -1,0 +1,1 @@
+"""Cutstand: machines that fall, and cuts and lines that stand."""
