@@ -1,6 +1,7 @@
 """What several tests share: forms and stands to ask about, things that are none, and how a refusal is asked."""
 
 import copy
+import random
 
 
 def nested(deep, kind):
@@ -79,3 +80,158 @@ def put(thing, place, value):
     parts = list(thing)
     parts[place[0]] = put(parts[place[0]], place[1:], value)
     return tuple(parts)
+
+
+# A run of TALK from its first stand, and all that is to be told of it.
+RUN = [
+    ("own", 0), ("come", 0, 0), ("come", 2, 0), ("come", 0, 1), ("own", 1), ("come", 3, 1), ("own", 0), ("come", 4, 0),
+    ("hear", 2, "k"),
+]
+RUN_END = (
+    (7, 5, 99),
+    ((3, ((2, "x"),)), (2, ((0, "d"), (1, "e"))), (1, ()), (4, ((0, "p"), (2, "r"), (3, "s"))), (1, ())),
+)
+RUN_WORDS = [(0, "go"), (2, "bee"), (1, "see"), (1, "abcdefgh"), (2, "cue"), (0, "heard")]
+RUN_EVENTS = [(0, 0), (1, 0), (2, 0), (1, 1), (1, 2), (2, 1), (0, 1), (0, 2), (2, 2)]
+RUN_LETTERS = {
+    (0, 0): (0, 1), (0, 1): (0, 3), (0, 2): (7, None), (1, 0): (1, None), (1, 1): (3, None), (2, 0): (0, 2),
+    (3, 0): (1, None), (3, 1): (4, 5), (3, 2): (4, None), (3, 3): (4, None), (4, 0): (2, 7),
+}
+RUN_PASTS = [(), (0,), (0,), (0, 1), (0, 1, 3), (0, 1, 2, 3, 4), (0,), (0, 2, 6), (0, 1, 2, 3, 4, 5)]
+RUN_CLOCKS = [
+    (1, 0, 0), (1, 1, 0), (1, 0, 1), (1, 2, 0), (1, 3, 0), (1, 3, 2), (2, 0, 0), (3, 0, 1), (1, 3, 3),
+]
+
+# From MIDST letters come that waited there already.
+MIDST_RUN = [("come", 4, 0), ("come", 2, 3), ("own", 0), ("come", 2, 0), ("come", 0, 2), ("come", 4, 1), ("own", 2)]
+MIDST_CLOCKS = [(1, 0, 0), (0, 0, 1), (2, 0, 0), (0, 0, 2), (0, 1, 0), (3, 0, 0), (0, 0, 3)]
+
+
+class Model:
+    """A form at work, written by the words of the document alone, to hold the program against."""
+
+    def __init__(self, form, stand):
+        self.form = form
+        self.states = list(stand[0])
+        self.sent = [road[0] for road in stand[1]]
+        self.waiting = [dict(road[1]) for road in stand[1]]
+
+    def possible(self):
+        """All plain deeds that can be done now, with some signs to hear."""
+        deeds = [("hear", m, sign) for m in range(len(self.states)) for sign in "abz"]
+        for m, (_, moves) in enumerate(self.form[0]):
+            if any(move[:2] == (self.states[m], "own") for move in moves):
+                deeds.append(("own", m))
+        for road, (_, _, order) in enumerate(self.form[1]):
+            rising = sorted(self.waiting[road])
+            deeds.extend(("come", road, k) for k in (rising[:1] if order == "row" else rising))
+        return deeds
+
+    def do(self, deed):
+        """Do a deed; tell (machine, word or None) and the letters that it sent."""
+        m, cause = deed[1], deed[-1] if deed[0] == "hear" else "own"
+        if deed[0] == "come":
+            m, cause = self.form[1][deed[1]][1], self.waiting[deed[1]].pop(deed[2])
+        found = [move for move in self.form[0][m][1] if move[:2] == (self.states[m], cause)]
+        after, sends, word = found[0][2:] if found else (self.states[m], (), None)
+        self.states[m] = after
+        sent = []
+        for road, sign in sends:
+            sent.append((road, self.sent[road]))
+            self.waiting[road][self.sent[road]] = sign
+            self.sent[road] += 1
+        return (m, word), sent
+
+    def stand(self):
+        waiting = [tuple(sorted(letters.items())) for letters in self.waiting]
+        return tuple(self.states), tuple(zip(self.sent, waiting))
+
+
+def some_form(chance):
+    """A small form with few states and signs, so that its machines meet many of their moves."""
+    machines = chance.randint(1, 4)
+    roads = []
+    if machines > 1:
+        for _ in range(chance.randint(0, 8)):
+            one, other = chance.sample(range(machines), 2)
+            roads.append((one, other, chance.choice(["row", "heap"])))
+    rules = []
+    for m in range(machines):
+        own = [n for n, road in enumerate(roads) if road[0] == m]
+        moves = []
+        for state in range(3):
+            for cause in ("own", "a", "b"):
+                if chance.random() < 0.8:
+                    many = chance.randint(0, 3) if own else 0
+                    sends = tuple((chance.choice(own), chance.choice("abz")) for _ in range(many))
+                    moves.append((state, cause, chance.randint(0, 2), sends, chance.choice([None, "w", "word"])))
+        rules.append((chance.randint(0, 2), tuple(moves)))
+    return tuple(rules), tuple(roads)
+
+
+def some_stand(chance, form, most=3):
+    """A stand of a form with some letters that wait."""
+    roads = []
+    for _, _, order in form[1]:
+        sent = chance.choice([0, 1, 2, 5, 10 ** 9])
+        many = min(sent, chance.randint(0, most))
+        numbers = range(sent - many, sent)
+        if order == "heap":
+            numbers = sorted(chance.sample(range(sent), many))
+        roads.append((sent, tuple((k, chance.choice("abz")) for k in numbers)))
+    return tuple(chance.randint(0, 3) for _ in form[0]), tuple(roads)
+
+
+def some_run(chance, form, stand, many):
+    """A run of so many deeds, with comings rather more often than hearings."""
+    model = Model(form, stand)
+    deeds = []
+    for _ in range(many):
+        possible = model.possible()
+        likely = [deed for deed in possible if deed[0] != "hear"]
+        deeds.append(chance.choice(likely if likely and chance.random() < 0.9 else possible))
+        model.do(deeds[-1])
+    return deeds
+
+
+def some_runs(many, runs):
+    """So many runs of so many deeds, each with its chance, form and stand; the same ones each time."""
+    for seed in range(runs):
+        chance = random.Random(seed)
+        form = some_form(chance)
+        stand = some_stand(chance, form)
+        yield chance, form, stand, some_run(chance, form, stand, many)
+
+
+def relation(form, stand, deeds):
+    """The pairs (one, other) of which one is before other: the direct ones, closed step by step."""
+    model, senders, machines, pairs = Model(form, stand), {}, [], set()
+    for number, deed in enumerate(deeds):
+        if deed[0] == "come" and deed[1:] in senders:
+            pairs.add((senders[deed[1:]], number))
+        (m, _), sent = model.do(deed)
+        pairs.update((ahead, number) for ahead in range(number) if machines[ahead] == m)
+        machines.append(m)
+        senders.update((letter, number) for letter in sent)
+    for middle in range(len(deeds)):
+        into = [one for one, other in pairs if other == middle]
+        out = [other for one, other in pairs if one == middle]
+        pairs.update((one, other) for one in into for other in out)
+    return pairs
+
+
+def crowded():
+    """A form with a stand at its bounds, and a run of two hundred deeds from it."""
+    roads = tuple((n % 4, (n + 1) % 4, "heap" if n < 4 else "row") for n in range(8))
+    rules = []
+    for m in range(4):
+        sends = ((m, "a"), (m + 4, "b"), (m, "c"))
+        rules.append((0, tuple((0, cause, 0, sends, "word") for cause in ("own", "a", "b", "c"))))
+    form = (tuple(rules), roads)
+    low, high = tuple((k, "a") for k in range(0, 234, 2)), tuple((k, "b") for k in range(10 ** 9 - 117, 10 ** 9))
+    stand = ((0,) * 4, tuple((10 ** 9, low if n < 4 else high) for n in range(8)))
+    deeds = []
+    for n in range(50):
+        deeds += [("own", n % 4), ("come", n % 4, 2 * n), ("come", 4 + n % 4, 10 ** 9 - 117 + n // 4)]
+        deeds.append(("come", n % 4, 10 ** 9 + 2 * (n // 4)))
+    return form, stand, deeds

@@ -29,6 +29,8 @@ Pow USub UAdd Invert BitAnd BitOr BitXor LShift RShift Eq NotEq Lt LtE Gt GtE Is
 KEYWORDS = {"sorted": ["key", "reverse"], "min": ["key", "default"], "max": ["key", "default"], "sum": ["start"],
             "enumerate": ["start"], "zip": ["strict"]}
 
+WALKED = "zip enumerate reversed range items keys values".split()
+
 
 def text_faults(text):
     rows = text.split("\n")
@@ -59,6 +61,9 @@ def node_faults(node):
     if isinstance(node, ast.Assign) and (len(node.targets) > 1 or not isinstance(
             node.targets[0], (ast.Name, ast.Attribute, ast.Subscript))):
         yield f"L6 line {where}: more than one target"
+    if isinstance(node, (ast.Assign, ast.Return)) and isinstance(node.value, ast.Call):
+        if getattr(node.value.func, "id", getattr(node.value.func, "attr", "")) in WALKED:
+            yield f"L23 line {where}: kept and not walked"
     if isinstance(node, (ast.For, ast.While)) and node.orelse:
         yield f"L6 line {where}: else behind a loop"
     if isinstance(node, ast.ListComp) and (len(node.generators) > 1 or len(node.generators[0].ifs) > 1):
@@ -175,7 +180,7 @@ class Language(unittest.TestCase):
             "def f(x):\n    return x / 2", "def f(x):\n    return [a for b in x for a in b]", "def f(x):\n    return x is 1",
             "def f(list):\n    return 0", "def f(x):\n    return x.format(1)", "def f(x):\n    x.sort()",
             "def f():\n    assert True", "def f(x):\n    return (a for a in x)", "_x = 1", "# a type", "x = '%'",
-            "def f(x):\n    a, b = x", "x = 1.5", "def f(x):\n    return getattr(x, 'a')", "x = 1" + " " * 120,
+            "def f(x):\n    a, b = x", "def f(x):\n    y = zip(x, x)", "x = 1.5", "def f(x):\n    return getattr(x, 'a')", "x = 1" + " " * 120,
             "def f(x):\n    for a in x:\n        pass\n    else:\n        pass", "def f(x):\n    return sorted(x, cmp=1)",
             "def f():\n" + "    x = 1\n" * 40, "x = 1\n" + "\n" * 400,
         ]
