@@ -3,6 +3,9 @@
 import copy
 import random
 
+from cutstand.cuts import right_cut, stand_at
+from cutstand.errors import NoDeed, NoTaking
+
 
 def nested(deep, kind):
     thing = kind(())
@@ -235,3 +238,144 @@ def crowded():
         deeds += [("own", n % 4), ("come", n % 4, 2 * n), ("come", 4 + n % 4, 10 ** 9 - 117 + n // 4)]
         deeds.append(("come", n % 4, 10 ** 9 + 2 * (n // 4)))
     return form, stand, deeds
+
+
+def journeys(form, stand, deeds):
+    """For each letter [sender, sent, taker, came] and the numbers of the deeds that sent it and let it come."""
+    model, counts = Model(form, stand), [0] * len(form[0])
+    found = {}
+    for road, (_, waiting) in enumerate(stand[1]):
+        found.update(((road, k), [form[1][road][0], None, form[1][road][1], None, None, None]) for k, _ in waiting)
+    for number, deed in enumerate(deeds):
+        if deed[0] == "come":
+            found[deed[1:]][3] = counts[form[1][deed[1]][1]]
+            found[deed[1:]][5] = number
+        (m, _), sent = model.do(deed)
+        found.update(((road, k), [m, counts[m], form[1][road][1], None, number, None]) for road, k in sent)
+        counts[m] += 1
+    return found
+
+
+def in_rows(form):
+    """The same form with rows alone."""
+    return form[0], tuple((one, other, "row") for one, other, _ in form[1])
+
+
+def ends(form, deeds):
+    """How many events each machine has by these deeds."""
+    machines = [form[1][deed[1]][1] if deed[0] == "come" else deed[1] for deed in deeds]
+    return [machines.count(m) for m in range(len(form[0]))]
+
+
+class AtWork:
+    """A taking at work, written by the words of the document alone: what both sorts of them share."""
+
+    def __init__(self, form, base):
+        self.form, self.base, self.model = form, base, Model(form, base)
+        self.deeds, self.seen = [], [None] * len(form[0])
+
+    def taking(self):
+        return self.base, tuple(self.deeds), tuple(self.seen)
+
+    def refusal(self, deed):
+        """The error and its fields that are due of a deed of the right shape, None where it can be done."""
+        if deed[0] == "begin":
+            return None if self.seen[deed[1]] is None else (NoTaking, {"word": "seen", "number": deed[1]})
+        if deed[0] != "hear" and deed not in self.model.possible():
+            return NoDeed, {"number": 0}
+        return None
+
+    def do(self, deed):
+        """Do a deed that can be done; tell the letters that a plain one sent."""
+        if deed[0] == "begin":
+            self.seen[deed[1]] = ends(self.form, self.deeds)[deed[1]]
+            return []
+        self.deeds.append(deed)
+        return self.model.do(deed)[1]
+
+    def deeds_to_try(self):
+        tried = self.model.possible() + [("begin", m) for m in range(len(self.form[0]))]
+        tried += [("own", m) for m in range(len(self.form[0]))]
+        return tried + [("come", road, self.model.sent[road] - 1) for road in range(len(self.form[1]))]
+
+    def behind(self, deed):
+        """Another one, that stands where this one does behind a deed."""
+        other = copy.deepcopy(self)
+        other.do(deed)
+        return other
+
+    def walk(self, chance, many):
+        """Do so many deeds, plain ones and marks rather than others."""
+        for _ in range(many):
+            tried = [deed for deed in self.deeds_to_try() if self.refusal(deed) is None]
+            marks = [deed for deed in tried if deed[0] == "mark"]
+            plain = [deed for deed in tried if deed[0] in ("own", "come")]
+            self.do(chance.choice(chance.choice([marks, plain, plain, plain, tried]) or plain or tried))
+        return self
+
+    def all_reached(self, most):
+        """All takings with at most so many plain deeds to which deeds lead, but for hearings."""
+        reached, ahead = {}, [self]
+        while ahead:
+            at_work = ahead.pop()
+            if at_work.taking() not in reached:
+                reached[at_work.taking()] = True
+                for deed in at_work.deeds_to_try():
+                    if deed[0] in ("begin", "mark") or deed[0] != "hear" and len(at_work.deeds) < most:
+                        if at_work.refusal(deed) is None:
+                            ahead.append(at_work.behind(deed))
+        return reached
+
+
+class AskTakings:
+    """What is asked of takings of both sorts; a case has its functions as first, done, right, way, taken."""
+
+    def leads(self, form, taking, deed, to):
+        told = unchanged(self, self.done, form, taking, deed)
+        self.assertEqual(repr(told), repr(to))
+        self.assertIs(self.right(form, told), True)
+        return told
+
+    def no(self, error, form, taking, deed, **fields):
+        refused(self, error, fields, self.done, form, taking, deed)
+
+    def is_due(self, due, form, thing):
+        """Ask that a thing is refused with the (word, number) that is due, let by where none is."""
+        if due is None:
+            self.assertIs(unchanged(self, self.right, form, thing), True)
+        else:
+            refused(self, NoTaking, {"word": due[0], "number": due[1]}, self.right, form, thing)
+
+    def each_deed_leads_on(self, at_work):
+        form, taking = at_work.form, at_work.taking()
+        self.is_due(None, form, taking)
+        for deed in at_work.deeds_to_try():
+            due = at_work.refusal(deed)
+            if due is None:
+                self.leads(form, taking, deed, at_work.behind(deed).taking())
+            else:
+                refused(self, due[0], due[1], self.done, form, taking, deed)
+
+    def is_led_to(self, at_first, taking):
+        """Ask that the told way leads to the taking from the first one of its base."""
+        form = at_first.form
+        way = unchanged(self, self.way, form, taking)
+        self.assertIs(type(way), list)
+        told = self.first(form, taking[0])
+        for deed in way:
+            self.assertIsNone(at_first.refusal(deed))
+            at_first.do(deed)
+            told = self.done(form, told, deed)
+        self.assertEqual(repr(at_first.taking()), repr(taking))
+        self.assertEqual(told, taking)
+
+    def is_taken(self, at_work):
+        """Ask what is told of the taking, that is, the cut of seen and its stand where it is finished."""
+        told = unchanged(self, self.taken, at_work.form, at_work.taking())
+        if not at_work.is_finished():
+            self.assertIsNone(told)
+            return
+        base, deeds, seen = at_work.taking()[:3]
+        self.assertEqual((type(told), len(told), told[0]), (tuple, 2, seen))
+        self.assertIs(right_cut(at_work.form, base, deeds, seen), True)
+        self.assertEqual(told[1], stand_at(at_work.form, base, deeds, seen))

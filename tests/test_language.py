@@ -82,13 +82,17 @@ def node_faults(node):
             yield f"L22 line {where}: keyword"
 
 
-def name_faults(tree):
+def object_values(tree):
+    """The names under which objects keep values."""
+    return [node.attr for node in ast.walk(tree) if isinstance(node, ast.Attribute) and isinstance(node.ctx, ast.Store)]
+
+
+def name_faults(tree, values):
     """Names that are banned, or given to what has one of Python's or of the file's own already."""
     taken = [node.name for node in ast.walk(tree) if isinstance(node, ast.ClassDef)]
     for node in tree.body:
         if isinstance(node, ast.ImportFrom):
             taken.extend(alias.asname or alias.name for alias in node.names)
-    values = [node.attr for node in ast.walk(tree) if isinstance(node, ast.Attribute) and isinstance(node.ctx, ast.Store)]
     for node in ast.walk(tree):
         bound = getattr(node, "arg", None) if isinstance(node, ast.arg) else None
         if isinstance(node, ast.Name) and isinstance(node.ctx, ast.Store):
@@ -121,9 +125,9 @@ def top_faults(tree):
             yield f"L15 {name} is bound twice"
 
 
-def file_faults(text):
+def file_faults(text, values=()):
     tree = ast.parse(text)
-    found = list(text_faults(text)) + list(top_faults(tree)) + list(name_faults(tree))
+    found = list(text_faults(text)) + list(top_faults(tree)) + list(name_faults(tree, list(values)))
     for node in ast.walk(tree):
         found.extend(node_faults(node))
     return found
@@ -148,8 +152,9 @@ class Language(unittest.TestCase):
                 self.assertFalse(hasattr(builtins, path.stem) and path.stem != "__init__", path.stem)
 
     def test_each_file(self):
+        values = [value for tree in self.trees.values() for value in object_values(tree)]
         for name, text in self.texts.items():
-            self.assertEqual(file_faults(text), [], name)
+            self.assertEqual(file_faults(text, values), [], name)
 
     def test_imports_come_from_the_file_that_defines_the_name(self):
         for name, tree in self.trees.items():
