@@ -2,23 +2,23 @@
 
 from cutstand.clocks import clocks
 from cutstand.errors import NoCut
-from cutstand.kinds import is_tuple_of, is_whole
-from cutstand.pasts import events_of, letters_of
+from cutstand.kinds import is_numbers
+from cutstand.pasts import events_of
 from cutstand.plain import run
+from cutstand.trips import TAKER, came_unsent, whole_trips
 
 
 def right_cut(form, stand, deeds, thing):
     """True of a right cut of the run; any other thing is refused by the first fault that is met."""
-    if not is_tuple_of(thing, len(form[0])) or not all([is_whole(position) for position in thing]):
+    if not is_numbers(thing, len(form[0])):
         raise NoCut(0, "shape")
-    events = events_of(form, deeds)
-    ends = positions(form, events)
+    ends = positions(form, events_of(form, deeds))
     for m, position in enumerate(thing):
         if not 0 <= position <= ends[m]:
             raise NoCut(m, "far")
-    unsent = came_unsent(events, letters_of(form, stand, deeds), thing)
-    if len(unsent) > 0:
-        raise NoCut(min(unsent), "came")
+    takers = [trip[TAKER] for trip in came_unsent(whole_trips(form, stand, deeds), thing)]
+    if len(takers) > 0:
+        raise NoCut(min(takers), "came")
     return True
 
 
@@ -33,16 +33,6 @@ def positions(form, events):
 def lies_in(event, cut):
     """Whether an event is among the first ones that are in the cut."""
     return event[1] < cut[event[0]]
-
-
-def came_unsent(events, letters, cut):
-    """The machines at which a letter came in the cut that was sent by a deed outside it."""
-    machines = []
-    for sending, coming in letters.values():
-        if sending is not None and coming is not None:
-            if lies_in(events[coming], cut) and not lies_in(events[sending], cut):
-                machines.append(events[coming][0])
-    return machines
 
 
 def stand_at(form, stand, deeds, cut):

@@ -40,3 +40,8 @@ def is_tuple_of(thing, many):
 def is_tuple_to(thing, most):
     """Whether it is a tuple of at most so many things."""
     return isinstance(thing, tuple) and len(thing) <= most
+
+
+def is_numbers(thing, many):
+    """Whether it is a tuple of just so many whole numbers."""
+    return is_tuple_of(thing, many) and all([is_whole(number) for number in thing])

@@ -2,6 +2,13 @@
 
 from cutstand.pasts import events_of, letters_of
 
+# Where a trip has its parts.
+LETTER = 0
+SENDER = 1
+SENT = 2
+TAKER = 3
+CAME = 4
+
 
 def trips(form, base, deeds):
     """For each letter, rising, the tuple (letter, sender, sent, taker, came)."""
@@ -21,3 +28,17 @@ def number_at(events, deed):
     if deed is None:
         return None
     return events[deed][1]
+
+
+def whole_trips(form, base, deeds):
+    """For each letter that is sent and comes in the run its trip."""
+    letters = {}
+    for trip in trips(form, base, deeds):
+        if trip[SENT] is not None and trip[CAME] is not None:
+            letters[trip[LETTER]] = trip
+    return letters
+
+
+def came_unsent(letters, cut):
+    """Of these whole trips those of letters that came in the cut and were not sent in it."""
+    return [trip for trip in letters.values() if trip[CAME] < cut[trip[TAKER]] and trip[SENT] >= cut[trip[SENDER]]]

@@ -1,6 +1,7 @@
 """What several tests share: forms and stands to ask about, things that are none, and how a refusal is asked."""
 
 import copy
+import itertools
 import random
 
 from cutstand.cuts import right_cut, stand_at
@@ -206,6 +207,24 @@ def some_runs(many, runs):
         yield chance, form, stand, some_run(chance, form, stand, many)
 
 
+def busy_runs(many, runs):
+    """Likewise of forms in which each machine sends by each deed, from stands where few letters wait."""
+    for seed in range(runs):
+        chance = random.Random(seed)
+        machines = chance.randint(2, 4)
+        roads = [(m, (m + 1) % machines, "row") for m in range(machines)]
+        while len(roads) < 8:
+            one, other = chance.sample(range(machines), 2)
+            roads.append((one, other, chance.choice(["row", "heap"])))
+        rules = []
+        for m in range(machines):
+            own = [n for n, road in enumerate(roads) if road[0] == m]
+            rules.append((0, tuple((0, cause, 0, ((chance.choice(own), "a"),), None) for cause in ("own", "a", "b"))))
+        form = (tuple(rules), tuple(roads))
+        stand = put(some_stand(chance, form, 1), (0,), (0,) * machines)
+        yield chance, form, stand, some_run(chance, form, stand, many)
+
+
 def relation(form, stand, deeds):
     """The pairs (one, other) of which one is before other: the direct ones, closed step by step."""
     model, senders, machines, pairs = Model(form, stand), {}, [], set()
@@ -379,3 +398,51 @@ class AskTakings:
         self.assertEqual((type(told), len(told), told[0]), (tuple, 2, seen))
         self.assertIs(right_cut(at_work.form, base, deeds, seen), True)
         self.assertEqual(told[1], stand_at(at_work.form, base, deeds, seen))
+
+
+def some_choices(chance, form, deeds):
+    """Choices of a run, few or many."""
+    often = chance.choice([0.2, 0.5, 0.8, 1])
+    return tuple((0,) + tuple(p for p in range(1, end + 1) if chance.random() < often) for end in ends(form, deeds))
+
+
+def all_lines(form, base, deeds, choices):
+    """All rows of choices in which no letter came that was not sent."""
+    letters = journeys(form, base, deeds).values()
+    found = []
+    for row in itertools.product(*choices):
+        if not any(came is not None and came < row[taker] and sent is not None and sent >= row[sender]
+                   for sender, sent, taker, came, _, _ in letters):
+            found.append(row)
+    return found
+
+
+def way_goes(letters, choices, way):
+    """How many letters of a way stand where they may, by the words of the document."""
+    for number, letter in enumerate(way):
+        sender, sent, taker, came = letters.get(letter, [None] * 4)[:4]
+        if sent is None or came is None:
+            return number
+        if number == 0:
+            bound = max(choices[sender])
+        else:
+            if sender != there[0]:
+                return number
+            bound = max(choice for choice in choices[sender] if choice <= there[1])
+        if sent < bound:
+            return number
+        there = (taker, came)
+    return len(way)
+
+
+# Two machines that send one another a letter by each coming and by themselves, and tell nothing.
+PING = (
+    ((0, ((0, "own", 0, ((0, "a"),), None), (0, "a", 0, ((0, "a"),), None))),
+     (0, ((0, "own", 0, ((1, "a"),), None), (0, "a", 0, ((1, "a"),), None)))),
+    ((0, 1, "row"), (1, 0, "heap")),
+)
+
+
+def ping_run(many):
+    """A run of PING in which one letter goes to and fro: each coming sends the next letter."""
+    return [("own", 0)] + [("come", n % 2, n // 2) for n in range(many - 1)]
