@@ -12,7 +12,7 @@ def right_cut(form, stand, deeds, thing):
     """True of a right cut of the run; any other thing is refused by the first fault that is met."""
     if not is_numbers(thing, len(form[0])):
         raise NoCut(0, "shape")
-    ends = positions(form, events_of(form, deeds))
+    ends = ends_of_deeds(form, deeds)
     for m, position in enumerate(thing):
         if not 0 <= position <= ends[m]:
             raise NoCut(m, "far")
@@ -30,16 +30,30 @@ def positions(form, events):
     return tuple(counts)
 
 
+def ends_of_deeds(form, deeds):
+    """The tuple of how many events each machine has by these deeds."""
+    return positions(form, events_of(form, deeds))
+
+
 def lies_in(event, cut):
     """Whether an event is among the first ones that are in the cut."""
     return event[1] < cut[event[0]]
 
 
+def deeds_in(form, deeds, cut):
+    """The list of the deeds whose events lie in the cut."""
+    return [deed for deed, event in zip(deeds, events_of(form, deeds)) if lies_in(event, cut)]
+
+
+def deeds_beyond(form, deeds, cut):
+    """The list of the deeds whose events do not lie in the cut."""
+    return [deed for deed, event in zip(deeds, events_of(form, deeds)) if not lies_in(event, cut)]
+
+
 def stand_at(form, stand, deeds, cut):
     """The stand of a right cut."""
     # On each road one machine sends, so a right cut's deeds alone send and find the same letters as in the run.
-    inside = [deed for deed, event in zip(deeds, events_of(form, deeds)) if lies_in(event, cut)]
-    return run(form, stand, inside)[0]
+    return run(form, stand, deeds_in(form, deeds, cut))[0]
 
 
 def both(one, other):

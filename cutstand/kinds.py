@@ -45,3 +45,13 @@ def is_tuple_to(thing, most):
 def is_numbers(thing, many):
     """Whether it is a tuple of just so many whole numbers."""
     return is_tuple_of(thing, many) and all([is_whole(number) for number in thing])
+
+
+def is_rising(numbers):
+    """Whether each number is greater than the one ahead."""
+    return all([ahead < behind for ahead, behind in zip(numbers, numbers[1:])])
+
+
+def is_rising_below(thing, bound):
+    """Whether it is a rising tuple, perhaps empty, of whole numbers from 0 on that are less than the bound."""
+    return isinstance(thing, tuple) and all([is_below(number, bound) for number in thing]) and is_rising(thing)

@@ -7,7 +7,11 @@ from cutstand.trips import CAME, LETTER, SENDER, SENT, TAKER, came_unsent, whole
 
 def latest(form, base, deeds, choices):
     """The tuple (line, ways): the latest line of the choices, and its ways."""
-    letters = whole_trips(form, base, deeds)
+    return latest_by(whole_trips(form, base, deeds), choices)
+
+
+def latest_by(letters, choices):
+    """The latest line and its ways by these whole trips."""
     line = [own[-1] for own in choices]
     ways = [() for own in choices]
     unsent = came_unsent(letters, line)

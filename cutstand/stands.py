@@ -1,6 +1,6 @@
 """Stands: each machine's state, and the letters of each road."""
 
-from cutstand.kinds import is_below, is_sign, is_state, is_tuple_of, is_whole
+from cutstand.kinds import is_below, is_rising, is_sign, is_state, is_tuple_of, is_whole
 
 
 def first(form):
@@ -45,11 +45,6 @@ def right_letters(order, thing):
 def is_letter(thing, sent):
     """Whether it is (k, sign), of one of the letters that were sent."""
     return is_tuple_of(thing, 2) and is_below(thing[0], sent) and is_sign(thing[1])
-
-
-def is_rising(numbers):
-    """Whether each number is greater than the one ahead."""
-    return all([ahead < behind for ahead, behind in zip(numbers, numbers[1:])])
 
 
 def waits(stand, road):

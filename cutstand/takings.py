@@ -1,6 +1,6 @@
 """What takings by marks and by colours share: a base, the deeds done since, and what is seen of each machine."""
 
-from cutstand.cuts import positions
+from cutstand.cuts import ends_of_deeds
 from cutstand.errors import NoDeed, NoTaking
 from cutstand.kinds import is_below, is_tuple_of, is_whole
 from cutstand.pasts import events_of
@@ -34,11 +34,6 @@ def ask_seen(form, deeds, seen):
     for m, position in enumerate(seen):
         if position is not None and not 0 <= position <= ends[m]:
             raise NoTaking("seen", m)
-
-
-def ends_of_deeds(form, deeds):
-    """The tuple of how many events each machine has by these deeds."""
-    return positions(form, events_of(form, deeds))
 
 
 def is_begin(form, thing):

@@ -3,13 +3,18 @@
 from cutstand.choices import up_to
 from cutstand.errors import NoZigzag
 from cutstand.kinds import is_tuple_of
-from cutstand.lines import ends_at, is_letters, latest, line_asked, many_fit
+from cutstand.lines import ends_at, is_letters, latest_by, line_asked, many_fit
 from cutstand.trips import whole_trips
 
 
 def extended(form, base, deeds, choices, wanted):
     """The tuple ("line", line, ways) or ("way", way)."""
-    found = latest(form, base, deeds, up_to(choices, wanted))
+    return extended_by(whole_trips(form, base, deeds), choices, wanted)
+
+
+def extended_by(letters, choices, wanted):
+    """What is told of wanted choices by these whole trips."""
+    found = latest_by(letters, up_to(choices, wanted))
     for m, way in found[1]:
         # A wanted choice is the greatest one left to its machine, so any way to that machine ends at it.
         if m in wanted:

@@ -5,7 +5,7 @@ import itertools
 import random
 
 from cutstand.cuts import right_cut, stand_at
-from cutstand.errors import NoDeed, NoTaking
+from cutstand.errors import NoDeed, NoTaking, NoWorld
 
 
 def nested(deep, kind):
@@ -446,3 +446,220 @@ PING = (
 def ping_run(many):
     """A run of PING in which one letter goes to and fro: each coming sends the next letter."""
     return [("own", 0)] + [("come", n % 2, n // 2) for n in range(many - 1)]
+
+
+class AtWorld:
+    """A world at work, written by the words of the document alone."""
+
+    def __init__(self, form, base):
+        self.form, self.base = form, base
+        self.deeds, self.told = [], []
+        self.kept = [[0] for _ in form[0]]
+        self.noted = [[] for _ in form[0]]
+
+    def world(self):
+        kept, noted = (tuple(tuple(sorted(own)) for own in part) for part in (self.kept, self.noted))
+        return self.base, tuple(self.deeds), kept, noted, tuple(self.told)
+
+    def at(self, world):
+        """Another one, that stands at this world."""
+        other = AtWorld(self.form, world[0])
+        other.deeds, other.told = list(world[1]), list(world[4])
+        other.kept, other.noted = [list(own) for own in world[2]], [list(own) for own in world[3]]
+        return other
+
+    def ends(self):
+        return ends(self.form, self.deeds)
+
+    def model(self):
+        model = Model(self.form, self.base)
+        for deed in self.deeds:
+            model.do(deed)
+        return model
+
+    def words(self):
+        """Each event, in the deeds' order, with its word or None."""
+        model, counts, found = Model(self.form, self.base), [0] * len(self.form[0]), {}
+        for deed in self.deeds:
+            (m, word), _ = model.do(deed)
+            found[(m, counts[m])] = word
+            counts[m] += 1
+        return found
+
+    def choices(self, fallen):
+        found = []
+        for m, end in enumerate(self.ends()):
+            own = [p for p in range(end + 1) if any(
+                q <= p and all(e in self.noted[m] for e in range(q, p)) for q in self.kept[m])]
+            found.append(tuple(own if m in fallen or end in own else own + [end]))
+        return tuple(found)
+
+    def line(self, fallen):
+        """The latest line when these fall, of all rows of choices."""
+        return tuple(map(max, zip(*all_lines(self.form, self.base, self.deeds, self.choices(fallen)))))
+
+    def all_fall(self):
+        return self.line(range(len(self.form[0])))
+
+    def told_fault(self):
+        """The fields (machine, word) that are due of what is told, None where all is right."""
+        words, events, line = self.words(), list(self.words()), self.all_fall()
+        pairs = relation(self.form, self.base, self.deeds)
+        for place, event in enumerate(self.told):
+            if event not in words:
+                return -1, "told"
+            ahead = self.told[:place]
+            if event in ahead:
+                return event[0], "twice"
+            if words[event] is None:
+                return event[0], "word"
+            if event[1] >= line[event[0]]:
+                return event[0], "line"
+            for one, other in pairs:
+                if events[other] == event and words[events[one]] is not None and events[one] not in ahead:
+                    return event[0], "before"
+        return None
+
+    def may_throw(self, cut):
+        if any(position not in own for position, own in zip(cut, self.kept)):
+            return False
+        if cut not in all_lines(self.form, self.base, self.deeds, [(position,) for position in cut]):
+            return False
+        return all(word is None or event[1] >= cut[event[0]] or event in self.told for event, word in self.words().items())
+
+    def refusal(self, deed):
+        """The error and its fields that are due of a deed of the right shape (of fall, a right one), or None."""
+        if deed[0] == "tell":
+            other = self.at(self.world())
+            other.told.append(deed[1:])
+            fault = other.told_fault()
+            return fault and (NoWorld, {"machine": fault[0], "word": fault[1]})
+        if deed[0] == "keep":
+            fits = deed[1] < len(self.form[0]) and self.ends()[deed[1]] not in self.kept[deed[1]]
+        elif deed[0] == "note":
+            fits = deed[1] < len(self.form[0]) and deed[2] in range(self.ends()[deed[1]]) and deed[2] not in self.noted[deed[1]]
+        elif deed[0] == "throw":
+            fits = self.may_throw(deed[1])
+        else:
+            fits = deed[0] in ("fall", "hear") or deed in self.model().possible()
+        return None if fits else (NoDeed, {"number": 0})
+
+    def do(self, deed):
+        """Do a deed that can be done; tell what a tell tells."""
+        if deed[0] == "keep":
+            self.kept[deed[1]].append(self.ends()[deed[1]])
+        elif deed[0] == "note":
+            self.noted[deed[1]].append(deed[2])
+        elif deed[0] == "tell":
+            self.told.append(deed[1:])
+            return deed[1], self.words()[deed[1:]]
+        elif deed[0] == "fall":
+            self.go_back(deed[2])
+        elif deed[0] == "throw":
+            self.throw(deed[1])
+        else:
+            self.deeds.append(deed)
+        return None
+
+    def go_back(self, cut):
+        events = list(self.words())
+        self.deeds = [deed for deed, (m, e) in zip(self.deeds, events) if e < cut[m]]
+        self.kept = [[p for p in own if p <= cut[m]] for m, own in enumerate(self.kept)]
+        self.noted = [[e for e in own if e < cut[m]] for m, own in enumerate(self.noted)]
+        self.told = [(m, e) for m, e in self.told if e < cut[m]]
+
+    def throw(self, cut):
+        events, model = list(self.words()), Model(self.form, self.base)
+        for deed, (m, e) in zip(self.deeds, events):
+            if e < cut[m]:
+                model.do(deed)
+        self.base = model.stand()
+        self.deeds = [deed for deed, (m, e) in zip(self.deeds, events) if e >= cut[m]]
+        self.kept = [[p - cut[m] for p in own if p >= cut[m]] for m, own in enumerate(self.kept)]
+        self.noted = [[e - cut[m] for e in own if e >= cut[m]] for m, own in enumerate(self.noted)]
+        self.told = [(m, e - cut[m]) for m, e in self.told if e >= cut[m]]
+
+    def cuts(self):
+        """All cuts that may be thrown to."""
+        return [cut for cut in itertools.product(*self.kept) if self.may_throw(cut)]
+
+    def groups(self):
+        """All rising tuples of one or more machines."""
+        machines = range(len(self.form[0]))
+        return [group for many in machines for group in itertools.combinations(machines, many + 1)]
+
+    def deeds_to_try(self, chance):
+        """Deeds of each kind but fall, such as can be done and such as can't."""
+        machines = range(len(self.form[0]) + 1)
+        tried = self.model().possible() + [("own", m) for m in machines[:-1]] + [("keep", m) for m in machines]
+        for m, end in enumerate(self.ends() + [0]):
+            tried += [("note", m, e) for e in range(end + 1)] + [("tell", m, e) for e in range(end + 1)]
+        tried += [("come", road, chance.randint(0, 3)) for road in range(len(self.form[1]))]
+        tried += [("throw", cut) for cut in self.cuts()]
+        return tried + [("throw", tuple(chance.choice(own + [end]) for own, end in zip(self.kept, self.ends())))]
+
+    def may(self, chance, kind):
+        """Some deed of a kind that can be done, of a fall without its line and ways, None where there is none."""
+        if kind == "fall":
+            return ("fall", chance.choice(self.groups()))
+        tried = [deed for deed in self.deeds_to_try(chance) if deed[0] in kind]
+        if kind == ("throw",):
+            tried = [deed for deed in tried if any(deed[1])]
+        tried = [deed for deed in chance.sample(tried, len(tried)) if self.refusal(deed) is None]
+        return tried[0] if tried else None
+
+
+PLAIN, KEEPING = ("own", "come", "hear"), ("keep", "note")
+
+
+def first_worlds(many):
+    """So many worlds at work that are first ones, each with its chance; every second one of a form that tells much."""
+    for seed in range(many):
+        chance = random.Random(seed)
+        form = some_form(chance)
+        if seed % 2:
+            form = talkative(form)
+        yield chance, AtWorld(form, some_stand(chance, form, 1))
+
+
+def walk(chance, at_work, many, fall_of, most=12):
+    """So many deeds of a world, one by one; each is yielded ahead of its doing. The falls are made by fall_of."""
+    kinds = [PLAIN, PLAIN, PLAIN, KEEPING, KEEPING, KEEPING, ("tell",), ("tell",), "fall", ("throw",)]
+    for _ in range(many):
+        kind = chance.choice(kinds)
+        if len(at_work.deeds) >= most and kind == PLAIN:
+            kind = "fall"
+        deed = at_work.may(chance, kind)
+        if deed is not None and kind == "fall":
+            deed = fall_of(at_work.form, at_work.world(), deed[1])
+        if deed is not None:
+            yield deed
+            at_work.do(deed)
+
+
+def world_walks(many, walks, fall_of, most=12):
+    """The steps of so many walks: each yields the chance, the world at work and the deed that is done there next."""
+    for chance, at_work in first_worlds(walks):
+        for deed in walk(chance, at_work, many, fall_of, most):
+            yield chance, at_work, deed
+
+
+def right_worlds(many, worlds):
+    """So many right worlds at work, of runs of so many deeds with much sent, kept and noted, and some of it told."""
+    for chance, form, base, deeds in busy_runs(many, worlds):
+        at_work = AtWorld(talkative(form), base)
+        at_work.deeds = deeds
+        at_work.kept = [list(own) for own in some_choices(chance, form, deeds)]
+        at_work.noted = [[e for e in range(end) if chance.random() < 0.3] for end in ends(form, deeds)]
+        for _ in range(chance.randint(0, 6)):
+            deed = at_work.may(chance, ("tell",))
+            if deed is not None:
+                at_work.do(deed)
+        yield chance, at_work
+
+
+def talkative(form):
+    """The same form with a word of its own for each move."""
+    letters = iter("abcdefghijklmnopqrstuvwxyz" * 5)
+    rules = [(start, tuple(move[:4] + (next(letters) + "w",) for move in moves)) for start, moves in form[0]]
+    return tuple(rules), form[1]

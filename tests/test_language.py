@@ -29,6 +29,7 @@ Pow USub UAdd Invert BitAnd BitOr BitXor LShift RShift Eq NotEq Lt LtE Gt GtE Is
 KEYWORDS = {"sorted": ["key", "reverse"], "min": ["key", "default"], "max": ["key", "default"], "sum": ["start"],
             "enumerate": ["start"], "zip": ["strict"]}
 
+FREE_ERRORS = "KeyError ZeroDivisionError StopIteration".split()
 WALKED = "zip enumerate reversed range items keys values".split()
 
 
@@ -87,6 +88,55 @@ def object_values(tree):
     return [node.attr for node in ast.walk(tree) if isinstance(node, ast.Attribute) and isinstance(node.ctx, ast.Store)]
 
 
+def object_methods(tree):
+    """The names of the methods of a file's classes."""
+    classes = [node for node in ast.walk(tree) if isinstance(node, ast.ClassDef)]
+    return [node.name for found in classes for node in found.body if isinstance(node, ast.FunctionDef)]
+
+
+def table_faults(tree):
+    """Lists and dicts of a file's top that hold such themselves, or are used otherwise than by reading them."""
+    tables = []
+    for node in tree.body:
+        if isinstance(node, ast.Assign) and isinstance(node.value, (ast.List, ast.Dict)):
+            tables.append(node.targets[0].id)
+            if any(isinstance(part, (ast.List, ast.Dict)) for part in ast.walk(node.value) if part is not node.value):
+                yield f"L15 line {node.lineno}: a list or dict within another one"
+    read = []
+    for node in ast.walk(tree):
+        if isinstance(node, ast.Subscript) and isinstance(node.ctx, ast.Load):
+            read.append(node.value)
+        if isinstance(node, ast.Compare):
+            read.extend(node.comparators)
+        if isinstance(node, (ast.For, ast.comprehension)):
+            read.append(node.iter)
+    for node in ast.walk(tree):
+        if isinstance(node, ast.Name) and isinstance(node.ctx, ast.Load) and node.id in tables and node not in read:
+            yield f"L15 line {node.lineno}: {node.id} is more than read"
+
+
+def except_faults(tree):
+    """Errors that are taken otherwise than by the names of the program's own, or of KeyError and its like."""
+    for node in ast.walk(tree):
+        if isinstance(node, ast.ExceptHandler):
+            names = node.type.elts if isinstance(node.type, ast.Tuple) else [node.type]
+            for name in names:
+                if not isinstance(name, ast.Name) or name.id in ERRORS and name.id not in FREE_ERRORS:
+                    yield f"L19 line {node.lineno}: what is taken here has to be looked at"
+        if isinstance(node, ast.Call) and getattr(node.func, "id", "") == "set" and not stands_beside(tree, node):
+            yield f"L24 line {node.lineno}: a set is kept"
+
+
+def stands_beside(tree, call):
+    """Whether a set stands beside in, == or !=, or straight within sorted or len."""
+    for node in ast.walk(tree):
+        if isinstance(node, ast.Compare) and call in [node.left] + node.comparators:
+            return True
+        if isinstance(node, ast.Call) and getattr(node.func, "id", "") in ("sorted", "len") and call in node.args:
+            return True
+    return False
+
+
 def name_faults(tree, values):
     """Names that are banned, or given to what has one of Python's or of the file's own already."""
     taken = [node.name for node in ast.walk(tree) if isinstance(node, ast.ClassDef)]
@@ -128,6 +178,7 @@ def top_faults(tree):
 def file_faults(text, values=()):
     tree = ast.parse(text)
     found = list(text_faults(text)) + list(top_faults(tree)) + list(name_faults(tree, list(values)))
+    found += list(table_faults(tree)) + list(except_faults(tree))
     for node in ast.walk(tree):
         found.extend(node_faults(node))
     return found
@@ -152,9 +203,16 @@ class Language(unittest.TestCase):
                 self.assertFalse(hasattr(builtins, path.stem) and path.stem != "__init__", path.stem)
 
     def test_each_file(self):
-        values = [value for tree in self.trees.values() for value in object_values(tree)]
+        own = [value for tree in self.trees.values() for value in object_values(tree) + object_methods(tree)]
         for name, text in self.texts.items():
-            self.assertEqual(file_faults(text, values), [], name)
+            self.assertEqual(file_faults(text, own), [], name)
+
+    def test_methods_and_values_have_names_of_their_own(self):
+        values = {value for tree in self.trees.values() for value in object_values(tree)}
+        methods = {method for tree in self.trees.values() for method in object_methods(tree)} - set(SPECIAL)
+        self.assertEqual(values & methods, set(), "L18")
+        for name in values | methods:
+            self.assertFalse(any(hasattr(kind, name) for kind in (str, int, list, tuple, dict, set, bytes)), ("L26", name))
 
     def test_imports_come_from_the_file_that_defines_the_name(self):
         for name, tree in self.trees.items():
@@ -187,6 +245,8 @@ class Language(unittest.TestCase):
             "def f():\n    assert True", "def f(x):\n    return (a for a in x)", "_x = 1", "# a type", "x = '%'",
             "def f(x):\n    a, b = x", "def f(x):\n    y = zip(x, x)", "x = 1.5", "def f(x):\n    return getattr(x, 'a')", "x = 1" + " " * 120,
             "def f(x):\n    for a in x:\n        pass\n    else:\n        pass", "def f(x):\n    return sorted(x, cmp=1)",
+            "T = {'a': [1]}", "T = [1]\ndef f():\n    return T", "T = {}\ndef f(x):\n    T[x] = 1", "T = []\ndef f(x):\n    T.append(x)",
+            "def f(x):\n    try:\n        return int(x)\n    except ValueError:\n        return 0", "def f(x):\n    return set(x)",
             "def f():\n" + "    x = 1\n" * 40, "x = 1\n" + "\n" * 400,
         ]
         for text in faulty:
